@@ -1,0 +1,1 @@
+"""Facesparted: cubes of bits parted into faces."""

@@ -1,0 +1,1 @@
+"""Faces, sets of corners and partings."""

@@ -1,0 +1,1 @@
+"""What is least: fewest faces, one size, covers, trees."""

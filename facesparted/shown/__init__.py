@@ -1,0 +1,1 @@
+"""What shows something of partings: odd counts, tightness."""
