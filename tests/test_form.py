@@ -21,6 +21,25 @@ FUNCTIONS = {
         "sizes_of": ["some", "faces"],
         "is_finer": ["some", "one", "other"],
     },
+    "least/fewest.py": {
+        "fewest_faces": ["some"],
+        "counts_by_faces": ["some"],
+        "all_partings": ["bits"],
+    },
+    "least/onesize.py": {
+        "parting_of_size": ["some", "stars"],
+        "count_of_size": ["some", "stars"],
+    },
+    "shown/odd.py": {
+        "odd_counts": ["some"],
+        "shows_none": ["some", "stars"],
+        "least_single": ["some"],
+    },
+    "shown/tight.py": {
+        "is_tight": ["bits", "faces"],
+        "made_up": ["bits", "faces"],
+        "count_tight": ["bits"],
+    },
 }
 CLASSES = {"errors.py": ["FaceError", "NoParting", "NoAsk", "NoSet", "NoCorner"]}
 LIBRARY = ("heapq", "math", "itertools", "collections")

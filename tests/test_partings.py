@@ -3,15 +3,20 @@
 import unittest
 from itertools import combinations
 
-from facesparted.errors import FaceError, NoAsk, NoCorner, NoParting, NoSet
+from facesparted.errors import NoParting
 from facesparted.faces.partings import is_finer, is_parting, sizes_of
-from plain import HALF_SET, all_corners, all_faces, all_sets, corners_in, other_orders, partings_of
-
-WHOLE = {bits: (bits, tuple(all_corners(bits))) for bits in range(1, 7)}
-NOTHING = {bits: (bits, ()) for bits in range(1, 7)}
-ODD_TEXTS = (
-    "", "0", "000", "0*2", "2*", "0 ", " 0", "**\n", "a" * 700, "**********", "~~", "0\n", "-1", "0*0*",
-    "*" * 700, "0" * 700,
+from plain import (
+    HALF_SET,
+    NOTHING,
+    ODD_TEXTS,
+    WHOLE,
+    all_corners,
+    all_faces,
+    all_sets,
+    check_refusal,
+    corners_in,
+    other_orders,
+    partings_of,
 )
 
 
@@ -143,13 +148,6 @@ class SizesTest(unittest.TestCase):
             with self.assertRaises(NoParting) as caught:
                 sizes_of(some, faces)
             check_refusal(self, caught.exception)
-
-
-def check_refusal(case, told):
-    case.assertIsInstance(told, FaceError)
-    case.assertIsInstance(told, ValueError)
-    case.assertNotIsInstance(told, (NoSet, NoAsk, NoCorner))
-    case.assertIs(type(str(told)), str)
 
 
 class FinerTest(unittest.TestCase):
