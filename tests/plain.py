@@ -10,6 +10,16 @@ ODD_TEXTS = (
     "", "0", "000", "0*2", "2*", "0 ", " 0", "**\n", "a" * 700, "**********", "~~", "0\n", "-1", "0*0*",
     "*" * 700, "0" * 700,
 )
+TIGHT = {
+    1: ("0", "1"),
+    3: ("000", "01*", "111", "1*0", "*01"),
+    4: ("0000", "01**", "1101", "111*", "1*00", "*001", "*01*"),
+    5: ("00000", "000*1", "01***", "10011", "1101*", "111**", "1*00*", "*0010", "*01**"),
+    6: (
+        "000000", "000*1*", "010011", "0101*1", "011**1", "01***0", "0*0001", "10011*", "1101**", "111***", "1*00**",
+        "*0010*", "*01***",
+    ),
+}
 
 
 def all_corners(bits):
@@ -91,13 +101,80 @@ def some_sets(bits, step):
         yield bits, tuple(corner for at, corner in enumerate(whole) if number >> at & 1)
 
 
+def in_order(faces):
+    return tuple(sorted(faces, key=place_of))
+
+
+def halves(bits):
+    """The two halves of the cube by each bit."""
+    for at in range(bits):
+        yield tuple("*" * at + sign + "*" * (bits - at - 1) for sign in "01")
+
+
+def tight_with_a_face_parted():
+    """Each tight parting with one of its faces in two halves: pairs (bits, faces)."""
+    for bits, tight in TIGHT.items():
+        for face in tight:
+            for at, sign in enumerate(face):
+                if sign == "*":
+                    both = [face[:at] + bit + face[at + 1:] for bit in "01"]
+                    yield bits, in_order([other for other in tight if other != face] + both)
+
+
 def other_orders(faces):
     return [other for other in permutations(faces) if other != tuple(faces)]
 
 
-def check_refusal(case, told):
-    case.assertIs(type(told), NoParting)
+def check_refusal(case, told, kind=NoParting):
+    case.assertIs(type(told), kind)
     case.assertIsInstance(told, FaceError)
     case.assertIsInstance(told, ValueError)
-    case.assertNotIsInstance(told, (NoSet, NoAsk, NoCorner))
+    others = tuple(other for other in (NoParting, NoAsk, NoSet, NoCorner) if other is not kind)
+    case.assertNotIsInstance(told, others)
     case.assertIs(type(str(told)), str)
+
+
+class SlowKept:
+    """Kept faces as sets of corners."""
+
+    def __init__(self, bits):
+        self.bits = bits
+        self.sets = [frozenset(all_corners(bits))]
+
+    def faces(self):
+        return in_order(face_of(own, self.bits) for own in self.sets)
+
+    def corners(self):
+        return tuple(sorted(corner for own in self.sets for corner in own))
+
+    def do(self, deed, corner):
+        if deed == "go":
+            self.go(corner)
+        else:
+            self.come(corner)
+
+    def go(self, corner):
+        going = next(own for own in self.sets if corner in own)
+        self.sets.remove(going)
+        for bit in range(self.bits):
+            staying = frozenset(other for other in going if other[bit] != corner[bit])
+            if staying:
+                self.sets.append(staying)
+                going = going - staying
+
+    def come(self, corner):
+        newest = frozenset([corner])
+        while True:
+            self.sets.sort(key=lambda own: place_of(face_of(own, self.bits)))
+            partners = [own for own in self.sets if face_of(newest | own, self.bits)]
+            if not partners:
+                break
+            self.sets.remove(partners[0])
+            newest = newest | partners[0]
+        self.sets.append(newest)
+
+
+def stirred(bits, step):
+    """All corners, each once, out of order: step is odd."""
+    whole = all_corners(bits)
+    return [whole[(3 + number * step) % len(whole)] for number in range(len(whole))]

@@ -30,6 +30,17 @@ FUNCTIONS = {
         "parting_of_size": ["some", "stars"],
         "count_of_size": ["some", "stars"],
     },
+    "least/covers.py": {
+        "fewest_cover": ["some"],
+        "greatest_faces": ["some"],
+    },
+    "least/trees.py": {
+        "least_depth": ["some"],
+        "fewest_leaves": ["some"],
+        "is_right": ["some", "tree"],
+        "parting_by": ["some", "tree"],
+        "comes_by_tree": ["bits", "faces"],
+    },
     "shown/odd.py": {
         "odd_counts": ["some"],
         "shows_none": ["some", "stars"],
@@ -41,7 +52,21 @@ FUNCTIONS = {
         "count_tight": ["bits"],
     },
 }
-CLASSES = {"errors.py": ["FaceError", "NoParting", "NoAsk", "NoSet", "NoCorner"]}
+CLASSES = {
+    "errors.py": ["FaceError", "NoParting", "NoAsk", "NoSet", "NoCorner"],
+    "kept.py": ["KeptFaces"],
+    "whole.py": ["Desk"],
+}
+METHODS = {
+    "kept.py": {
+        "__init__": ["self", "bits"],
+        "go_corner": ["self", "corner"],
+        "come_corner": ["self", "corner"],
+        "faces_now": ["self"],
+        "many_now": ["self"],
+    },
+    "whole.py": {"__init__": ["self"], "ask": ["self", "line"]},
+}
 LIBRARY = ("heapq", "math", "itertools", "collections")
 FOLDERS = ("", "faces", "least", "shown")
 
@@ -55,20 +80,25 @@ def tree_of(path):
 
 
 class InterfaceTest(unittest.TestCase):
+    def check_defined(self, rows, wanted):
+        found = {row.name: [each.arg for each in row.args.args] for row in rows if isinstance(row, ast.FunctionDef)}
+        for function, arguments in wanted.items():
+            self.assertEqual(found.get(function), arguments, function)
+
     def test_functions_are_defined_where_they_are_listed(self):
         for name, wanted in FUNCTIONS.items():
-            found = {
-                row.name: [each.arg for each in row.args.args]
-                for row in tree_of(PACKAGE / name).body
-                if isinstance(row, ast.FunctionDef)
-            }
-            for function, arguments in wanted.items():
-                self.assertEqual(found.get(function), arguments, function)
+            self.check_defined(tree_of(PACKAGE / name).body, wanted)
 
     def test_classes_are_defined_where_they_are_listed(self):
         for name, wanted in CLASSES.items():
             found = [row.name for row in tree_of(PACKAGE / name).body if isinstance(row, ast.ClassDef)]
             self.assertEqual(found, wanted)
+
+    def test_methods_are_defined_in_their_classes(self):
+        for name, wanted in METHODS.items():
+            classes = [row for row in tree_of(PACKAGE / name).body if isinstance(row, ast.ClassDef)]
+            self.assertEqual(len(classes), 1)
+            self.check_defined(classes[0].body, wanted)
 
     def test_folders_are_packages(self):
         for folder in FOLDERS:

@@ -10,25 +10,18 @@ from facesparted.least.fewest import all_partings
 from facesparted.shown.tight import count_tight, is_tight, made_up
 from plain import (
     ODD_TEXTS,
+    TIGHT,
     WHOLE,
     all_faces,
     check_refusal,
     corners_in,
+    halves,
+    in_order,
     other_orders,
     partings_of,
     partings_of_whole,
+    tight_with_a_face_parted,
 )
-
-TIGHT = {
-    1: ("0", "1"),
-    3: ("000", "01*", "111", "1*0", "*01"),
-    4: ("0000", "01**", "1101", "111*", "1*00", "*001", "*01*"),
-    5: ("00000", "000*1", "01***", "10011", "1101*", "111**", "1*00*", "*0010", "*01**"),
-    6: (
-        "000000", "000*1*", "010011", "0101*1", "011**1", "01***0", "0*0001", "10011*", "1101**", "111***", "1*00**",
-        "*0010*", "*01***",
-    ),
-}
 
 
 def slow_made_up(bits, faces):
@@ -58,16 +51,6 @@ def less_slow_made_up(bits, faces):
 def slow_tight(bits, faces, made):
     told = all(any(face[bit] != "*" for face in faces) for bit in range(bits))
     return len(faces) >= 2 and told and made is None
-
-
-def halves(bits):
-    """The two halves of the cube by each bit."""
-    for at in range(bits):
-        yield tuple("*" * at + sign + "*" * (bits - at - 1) for sign in "01")
-
-
-def in_order(faces):
-    return tuple(sorted(faces, key=lambda face: ["01*".index(sign) for sign in face]))
 
 
 class TightTest(unittest.TestCase):
@@ -134,14 +117,9 @@ class TightTest(unittest.TestCase):
         self.assertEqual(made_up(3, ("000", "010", "100", "110", "**1")), "0*0")
 
     def test_one_face_of_a_tight_one_parted(self):
-        for bits, tight in TIGHT.items():
-            for face in tight:
-                for at, sign in enumerate(face):
-                    if sign == "*":
-                        both = [face[:at] + bit + face[at + 1:] for bit in "01"]
-                        faces = in_order([other for other in tight if other != face] + both)
-                        self.check(bits, faces, less_slow_made_up(bits, faces))
-                        self.assertIs(is_tight(bits, faces), False)
+        for bits, faces in tight_with_a_face_parted():
+            self.check(bits, faces, less_slow_made_up(bits, faces))
+            self.assertIs(is_tight(bits, faces), False)
 
     def test_every_parting_of_up_to_three_bits(self):
         for bits in (1, 2, 3):

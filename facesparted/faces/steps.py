@@ -25,11 +25,16 @@ def as_number(corners):
     return sum([1 << int(corner, 2) for corner in corners])
 
 
+def face_number(face):
+    """The corners of the face as one number."""
+    return as_number(corners_of(face))
+
+
 def steps_among(faces):
     """The faces as pairs (number, place), by the bit of the first corner of each."""
     steps = {}
     for place, face in enumerate(faces):
-        number = as_number(corners_of(face))
+        number = face_number(face)
         steps.setdefault(number & -number, []).append((number, place))
     return steps
 

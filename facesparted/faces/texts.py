@@ -52,7 +52,12 @@ def joined(one, other):
     at = places[0]
     if one[at] == "*" or other[at] == "*":
         return None
-    return one[:at] + "*" + one[at + 1:]
+    return with_sign(one, at, "*")
+
+
+def with_sign(face, place, sign):
+    """The face with that sign at the place."""
+    return face[:place] + sign + face[place + 1:]
 
 
 def is_face(text, bits):
@@ -63,6 +68,11 @@ def is_face(text, bits):
         if sign not in "01*":
             return False
     return True
+
+
+def is_corner(text, bits):
+    """Whether the text is a corner of so many bits."""
+    return is_face(text, bits) and "*" not in text
 
 
 def order_key(face):
